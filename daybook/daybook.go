@@ -3,11 +3,14 @@ package daybook
 
 import (
 	"daybook/api"
+	"daybook/ledger"
 	"daybook/report"
 )
 
 // Book is a book at work.
-type Book struct{}
+type Book struct {
+	ledger ledger.Ledger
+}
 
 // Check tells whether a text is a report (P3).
 func Check(text string) (api.Errno, int) {
@@ -34,25 +37,37 @@ func Compile(text string) (string, api.Errno) {
 }
 
 // New makes an empty book (P6).
-func New() *Book { return nil }
+func New() *Book {
+	return &Book{ledger: ledger.New()}
+}
 
 // Mount makes a book of what a disk holds (P12).
 func Mount(image string) (*Book, api.Errno) { return nil, api.OK }
 
 // Open opens an account (P7).
-func (b *Book) Open(parent int) (int, api.Errno) { return 0, api.OK }
+func (b *Book) Open(parent int) (int, api.Errno) {
+	return b.ledger.Open(parent)
+}
 
 // Close closes an account (P8).
-func (b *Book) Close(account int) api.Errno { return api.OK }
+func (b *Book) Close(account int) api.Errno {
+	return b.ledger.Close(account)
+}
 
 // Post posts a transaction (P9).
-func (b *Book) Post(id int, day int, lines []api.Line) api.Errno { return api.OK }
+func (b *Book) Post(id int, day int, lines []api.Line) api.Errno {
+	return b.ledger.Post(id, day, lines)
+}
 
 // Accounts tells the accounts (P6).
-func (b *Book) Accounts() string { return "" }
+func (b *Book) Accounts() string {
+	return b.ledger.Accounts()
+}
 
 // Journal tells the transactions (P6).
-func (b *Book) Journal() string { return "" }
+func (b *Book) Journal() string {
+	return b.ledger.Journal()
+}
 
 // Report works out a report (P10).
 func (b *Book) Report(text string) (string, api.Errno) { return "", api.OK }
