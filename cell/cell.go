@@ -1,6 +1,8 @@
 // Package cell: whole numbers, and sums and products of them that never go astray unseen.
 package cell
 
+import "strconv"
+
 const (
 	Least    = -9223372036854775808
 	Greatest = 9223372036854775807
@@ -24,6 +26,17 @@ type Cell struct {
 // Of is the cell of a whole number.
 func Of(value int) Cell {
 	return Cell{State: Whole, Value: value}
+}
+
+// Text is the cell as a report tells it (P10).
+func (c Cell) Text() string {
+	switch c.State {
+	case ByZero:
+		return "z"
+	case Beyond:
+		return "o"
+	}
+	return strconv.Itoa(c.Value)
 }
 
 // Join is what comes of an operation, one of + - * and /.

@@ -76,3 +76,16 @@ func TestFirstFaultStays(t *testing.T) {
 		t.Errorf("-z = %v, -o = %v", Opposite(z), Opposite(o))
 	}
 }
+
+func TestText(t *testing.T) {
+	for _, c := range []struct {
+		cell Cell
+		want string
+	}{
+		{Of(0), "0"}, {Of(7), "7"}, {Of(-7), "-7"}, {Of(100), "100"}, {Of(Greatest), "9223372036854775807"}, {Of(Least), "-9223372036854775808"}, {Cell{State: ByZero}, "z"}, {Cell{State: Beyond}, "o"},
+	} {
+		if got := c.cell.Text(); got != c.want {
+			t.Errorf("%v is told as %q, want %q", c.cell, got, c.want)
+		}
+	}
+}

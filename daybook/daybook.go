@@ -5,6 +5,7 @@ import (
 	"daybook/api"
 	"daybook/ledger"
 	"daybook/report"
+	"daybook/sheet"
 )
 
 // Book is a book at work.
@@ -70,7 +71,13 @@ func (b *Book) Journal() string {
 }
 
 // Report works out a report (P10).
-func (b *Book) Report(text string) (string, api.Errno) { return "", api.OK }
+func (b *Book) Report(text string) (string, api.Errno) {
+	r, errno, _ := report.Read(text)
+	if errno != api.OK {
+		return "", errno
+	}
+	return sheet.Report(r, &b.ledger)
+}
 
 // Writes tells what was done to the disk since it was asked last (P11).
 func (b *Book) Writes() []api.Write { return nil }

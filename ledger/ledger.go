@@ -54,7 +54,8 @@ func (l *Ledger) Close(number int) api.Errno {
 	if l.hasOpenBelow(number) {
 		return api.ErrOpen
 	}
-	if l.balance(number) != 0 {
+	all := l.Alone(number, 0, api.MaxDay)
+	if all.Sum != 0 {
 		return api.ErrNonzero
 	}
 	l.accounts[number].closed = true
@@ -68,17 +69,4 @@ func (l *Ledger) hasOpenBelow(number int) bool {
 		}
 	}
 	return false
-}
-
-// balance can't go beyond an int: there are at most MaxPosts times MaxLines amounts, none of them beyond MaxAmount.
-func (l *Ledger) balance(number int) int {
-	sum := 0
-	for _, t := range l.transactions {
-		for _, line := range t.lines {
-			if line.Account == number {
-				sum += line.Amount
-			}
-		}
-	}
-	return sum
 }

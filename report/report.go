@@ -40,6 +40,11 @@ func (p Part) IsOperand() bool {
 	return false
 }
 
+// NamesAccount tells whether the part stands for an account's movement.
+func (p Part) NamesAccount() bool {
+	return p.Sign == '@' || p.Sign == '!' || p.Sign == '#'
+}
+
 // NamesRow tells whether the part stands for a cell of another row.
 func (p Part) NamesRow() bool {
 	return p.Sign == '$' || p.Sign == '<'
