@@ -3,6 +3,7 @@ package daybook
 
 import (
 	"daybook/api"
+	"daybook/disk"
 	"daybook/ledger"
 	"daybook/report"
 	"daybook/sheet"
@@ -11,6 +12,7 @@ import (
 // Book is a book at work.
 type Book struct {
 	ledger ledger.Ledger
+	disk   disk.Disk
 }
 
 // Check tells whether a text is a report (P3).
@@ -42,22 +44,61 @@ func New() *Book {
 	return &Book{ledger: ledger.New()}
 }
 
-// Mount makes a book of what a disk holds (P12).
-func Mount(image string) (*Book, api.Errno) { return nil, api.OK }
+// Mount makes a book of what a disk holds (P12): one that has made all calls again of which the disk has a record.
+func Mount(image string) (*Book, api.Errno) {
+	if len(image) != disk.Size {
+		return nil, api.ErrImage
+	}
+	b := New()
+	records := disk.Records(image)
+	for _, r := range records {
+		b.redo(r)
+	}
+	// an image that is not, to the last byte, what this book writes was not left by any book
+	writes := b.Writes()
+	if disk.Image(writes) != image {
+		return nil, api.ErrImage
+	}
+	return b, api.OK
+}
+
+// redo makes the call again of which a record tells. A call that is refused now leaves no record, so Mount finds it out.
+func (b *Book) redo(r disk.Record) {
+	switch r.Kind {
+	case disk.Opened:
+		b.Open(r.Number)
+	case disk.Closed:
+		b.Close(r.Number)
+	case disk.Posted:
+		b.Post(r.Number, r.Day, r.Lines)
+	}
+}
 
 // Open opens an account (P7).
 func (b *Book) Open(parent int) (int, api.Errno) {
-	return b.ledger.Open(parent)
+	number, errno := b.ledger.Open(parent)
+	if errno == api.OK {
+		b.disk.Lay(disk.Record{Kind: disk.Opened, Number: parent})
+	}
+	return number, errno
 }
 
 // Close closes an account (P8).
 func (b *Book) Close(account int) api.Errno {
-	return b.ledger.Close(account)
+	errno := b.ledger.Close(account)
+	if errno == api.OK {
+		b.disk.Lay(disk.Record{Kind: disk.Closed, Number: account})
+	}
+	return errno
 }
 
 // Post posts a transaction (P9).
 func (b *Book) Post(id int, day int, lines []api.Line) api.Errno {
-	return b.ledger.Post(id, day, lines)
+	isNew, errno := b.ledger.Post(id, day, lines)
+	if isNew {
+		b.disk.Lay(disk.Record{Kind: disk.Posted, Number: id, Day: day, Lines: lines})
+	}
+	return errno
 }
 
 // Accounts tells the accounts (P6).
@@ -80,4 +121,6 @@ func (b *Book) Report(text string) (string, api.Errno) {
 }
 
 // Writes tells what was done to the disk since it was asked last (P11).
-func (b *Book) Writes() []api.Write { return nil }
+func (b *Book) Writes() []api.Write {
+	return b.disk.Writes()
+}

@@ -5,30 +5,31 @@ import "daybook/api"
 // minLines is the fewest lines of a transaction.
 const minLines = 2
 
-// Post posts a transaction; one that the journal has already is not posted again (P9).
-func (l *Ledger) Post(id int, day int, lines []api.Line) api.Errno {
+// Post posts a transaction; one that the journal has already is not posted again (P9). It answers, too, whether the
+// journal has a new transaction now.
+func (l *Ledger) Post(id int, day int, lines []api.Line) (bool, api.Errno) {
 	if id < 0 || id > api.MaxId {
-		return api.ErrId
+		return false, api.ErrId
 	}
 	there, ok := l.find(id)
 	if ok {
-		return repeated(there, day, lines)
+		return false, repeated(there, day, lines)
 	}
 	if day < 0 || day > api.MaxDay {
-		return api.ErrDay
+		return false, api.ErrDay
 	}
 	errno := l.checkLines(lines)
 	if errno != api.OK {
-		return errno
+		return false, errno
 	}
 	if len(l.transactions) >= api.MaxPosts {
-		return api.ErrFull
+		return false, api.ErrFull
 	}
 	// the list stays its owner's
 	var kept []api.Line
 	kept = append(kept, lines...)
 	l.transactions = append(l.transactions, transaction{id: id, day: day, lines: kept})
-	return api.OK
+	return true, api.OK
 }
 
 func (l *Ledger) find(id int) (transaction, bool) {
